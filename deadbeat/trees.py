@@ -40,13 +40,19 @@ def depth(e):
 
 def size(e):
     """The number of expressions in an expression, itself included."""
-    many = 0
+    return len(parts(e))
+
+
+def parts(e):
+    """All expressions in an expression, itself included, in the order in which they are evaluated."""
+    found = []
     waiting = [e]
     while waiting:
         part = waiting.pop()
-        many += 1
+        found.append(part)
         waiting.extend(_operands(part))
-    return many
+    # So far each part stands ahead of its operands, and these from right to left.
+    return found[::-1]
 
 
 def _operands(e):

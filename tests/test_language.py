@@ -22,7 +22,7 @@ BARRED = set(
 NOT_NAMES = set(
     "register mro elements open input law version_info with_traceback add_note attrgetter breakpoint builtins "
     "compile copyright credits delattr dir eval exec exit gc globals help id importlib license locals methodcaller "
-    "os quit vars args".split()
+    "os quit vars".split()
 )
 METHODS = set(
     "append clear copy count endswith extend find get index insert isalnum isalpha isdigit islower isspace isupper "
@@ -118,6 +118,23 @@ class LanguageTest(unittest.TestCase):
                     self.assertRegex(name, r"^(_|_?[A-Za-z][A-Za-z0-9_]*)$")
                     self.assertFalse(hasattr(builtins, name), name)
                     self.assertNotIn(name, NOT_NAMES)
+
+    def test_names_in_classes(self):
+        for _, _, tree in self.each():
+            for node in ast.walk(tree):
+                if isinstance(node, ast.ClassDef):
+                    self.assertNotIn("args", set(bound_names(node)))
+
+    def test_patterns(self):
+        """Alternatives in a pattern have no names, and a captured name is not given another meaning."""
+        for _, _, tree in self.each():
+            for node in ast.walk(tree):
+                if isinstance(node, ast.MatchOr):
+                    for row in ast.walk(node):
+                        self.assertNotIsInstance(row, (ast.MatchAs, ast.MatchStar))
+                if isinstance(node, ast.FunctionDef):
+                    captured = {row.name for row in ast.walk(node) if isinstance(row, ast.MatchAs)}
+                    self.assertFalse(captured & set(bound_names(node)))
 
     def test_builtins(self):
         for path, _, tree in self.each():

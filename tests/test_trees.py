@@ -2,7 +2,7 @@ import copy
 import unittest
 
 from deadbeat.parsing import parse_expression
-from deadbeat.trees import depth, size, statements, write_expression, write_program
+from deadbeat.trees import depth, parts, size, statements, write_expression, write_program
 from tests.samples import FULL_TEXT, GROUPS, OPERATORS, UNARY, Maker, chain, full_program
 
 A, B, C = ("cell", "a"), ("cell", "b"), ("cell", "c")
@@ -51,6 +51,19 @@ class MeasureTest(unittest.TestCase):
         for _ in range(5000):
             e = ("neg", e)
         self.assertEqual(depth(e), 10000)
+
+
+class PartsTest(unittest.TestCase):
+    def test_order_of_evaluation(self):
+        self.assertEqual(parts(A), [A])
+        left, right = ("neg", A), ("at", "b", C)
+        self.assertEqual(parts(("-", left, right)), [A, left, C, right, ("-", left, right)])
+
+    def test_number_of_parts(self):
+        self.assertEqual(len(parts(chain("+", 5000))), 9999)
+        for seed in range(50):
+            e = Maker(seed).expression(6)
+            self.assertEqual(len(parts(e)), size(e))
 
 
 class StatementsTest(unittest.TestCase):
