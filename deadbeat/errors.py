@@ -1,5 +1,7 @@
 """The errors that the program raises."""
 
+from deadbeat.words import decimal
+
 
 class DeadbeatError(ValueError):
     """The base class of all errors of the program."""
@@ -9,7 +11,7 @@ class TextError(DeadbeatError):
     """A text that breaks the rules of tokens or of the grammar."""
 
     def __init__(self, line):
-        super().__init__(f"line {line} of the text")
+        super().__init__(f"line {decimal(line)} of the text")
         self.line = line
 
 
@@ -17,7 +19,7 @@ class CommandError(DeadbeatError):
     """A line of a script that is not a command."""
 
     def __init__(self, line):
-        super().__init__(f"line {line} of the script")
+        super().__init__(f"line {decimal(line)} of the script")
         self.line = line
 
 
@@ -33,7 +35,7 @@ class CodeError(DeadbeatError):
     """Code or an instruction that is not well formed, or too much code."""
 
     def __init__(self, at):
-        super().__init__(f"code at {at}")
+        super().__init__(f"code at {decimal(at)}")
         self.at = at
 
 
@@ -41,7 +43,7 @@ class BoundError(DeadbeatError):
     """A routine whose execution time cannot be bounded."""
 
     def __init__(self, at):
-        super().__init__(f"routine at {at}")
+        super().__init__(f"routine at {decimal(at)}")
         self.at = at
 
 
@@ -49,7 +51,7 @@ class PlanError(DeadbeatError):
     """A cost, a cache size or cache contents out of range."""
 
     def __init__(self, at):
-        super().__init__(f"value {at}")
+        super().__init__(f"value {decimal(at)}")
         self.at = at
 
 
@@ -57,5 +59,5 @@ class MixError(DeadbeatError):
     """A record that cannot be followed."""
 
     def __init__(self, at):
-        super().__init__(f"entry {at}")
+        super().__init__(f"entry {decimal(at)}")
         self.at = at

@@ -1,7 +1,7 @@
 """Texts as lists of tokens."""
 
 from deadbeat.errors import TextError
-from deadbeat.words import GREATEST_WORD
+from deadbeat.words import GREATEST_WORD, decimal
 
 RESERVED = (
     "system", "in", "out", "object", "cell", "operation", "give", "end", "task", "every", "within", "if", "else",
@@ -28,7 +28,11 @@ def is_reserved(name):
 
 def spell(tokens):
     """The values of the tokens except the last one, with one space between them."""
-    return " ".join([str(token[1]) for token in tokens[:-1]])
+    return " ".join([_spelled(value) for _, value, _ in tokens[:-1]])
+
+
+def _spelled(value):
+    return decimal(value) if isinstance(value, int) else value
 
 
 def tokenize(text):

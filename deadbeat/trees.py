@@ -1,5 +1,7 @@
 """Expressions, statements and programs, and their written form."""
 
+from deadbeat.words import decimal
+
 # The greater the number, the tighter the operator binds.
 TIGHTNESS = {
     "or": 1,
@@ -82,7 +84,7 @@ def _pieces(e):
     """The strings and the expressions that make up the written form of an expression, in order."""
     kind = e[0]
     if kind == "num":
-        return [str(e[1])]
+        return [decimal(e[1])]
     if kind == "cell":
         return [e[1]]
     if kind == "at":
@@ -172,13 +174,17 @@ def _operation_lines(operation):
 
 def _task_lines(task):
     _, name, every, within, cells, body = task
-    return _block(f"task {name} every {every} within {within}", _cell_lines(cells) + _body_lines(body))
+    return _block(f"task {name} {_times(every, within)}", _cell_lines(cells) + _body_lines(body))
 
 
 def _interrupt_line(interrupt):
     _, name, every, within, thing, operation, given = interrupt
-    words = _listed([str(word) for word in given])
-    return f"interrupt {name} every {every} within {within} calls {thing}.{operation}({words})"
+    words = _listed([decimal(word) for word in given])
+    return f"interrupt {name} {_times(every, within)} calls {thing}.{operation}({words})"
+
+
+def _times(every, within):
+    return f"every {decimal(every)} within {decimal(within)}"
 
 
 def _block(first, inside):
@@ -200,7 +206,7 @@ def _cell_lines(cells):
 def _cell_line(name, many):
     if many == 0:
         return f"cell {name}"
-    return f"cell {name}[{many}]"
+    return f"cell {name}[{decimal(many)}]"
 
 
 def _body_lines(body):
@@ -238,7 +244,7 @@ def _if_lines(statement):
 
 def _loop_lines(statement):
     _, name, count, e, body = statement
-    first = f"loop {name} to {count}"
+    first = f"loop {name} to {decimal(count)}"
     if e is not None:
         first = f"{first} while {write_expression(e)}"
     return _block(first, _body_lines(body))

@@ -3,6 +3,8 @@
 WORDS = 4294967296
 GREATEST_WORD = 4294967295
 SIGN_BIT = 2147483648
+PIECE_DIGITS = 18
+PIECE = 1000000000000000000
 
 
 def wrap(n):
@@ -15,6 +17,22 @@ def signed(w):
     if w < SIGN_BIT:
         return w
     return w - WORDS
+
+
+def decimal(n):
+    """An integer in decimal.
+
+    Python itself refuses to write an integer of some thousands of digits, so a few digits are written at a time.
+    """
+    pieces = []
+    rest = abs(n)
+    while rest >= PIECE:
+        rest, low = divmod(rest, PIECE)
+        pieces.append(str(low).zfill(PIECE_DIGITS))
+    pieces.append(str(rest))
+    if n < 0:
+        pieces.append("-")
+    return "".join(pieces[::-1])
 
 
 def combine(operator, a, b):

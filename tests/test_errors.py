@@ -15,7 +15,7 @@ class ErrorsTest(unittest.TestCase):
             self.assertEqual(kind.__bases__, (DeadbeatError,))
 
     def test_no_other_errors(self):
-        found = [name for name in dir(errors) if not name.startswith("__")]
+        found = [name for name, value in sorted(vars(errors).items()) if isinstance(value, type)]
         self.assertEqual(found, [
             "BoundError", "CodeError", "CommandError", "DeadbeatError", "MixError", "PlanError", "RuleError",
             "TextError",
