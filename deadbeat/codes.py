@@ -10,6 +10,11 @@ NAMES = (
 CALCULATIONS = (
     "add", "sub", "mul", "div", "mod", "and", "or", "xor", "shl", "shr", "ult", "ule", "slt", "sle", "eq", "ne", "nor",
 )
+# The operators for which the operations of "calc" stand.
+OPERATORS = {
+    "add": "+", "sub": "-", "mul": "*", "div": "/", "mod": "mod", "and": "&", "or": "|", "xor": "^", "shl": "<<",
+    "shr": ">>", "ult": "<", "ule": "<=", "slt": "~<", "sle": "~<=", "eq": "==", "ne": "!=",
+}
 # The parts of each instruction behind its name.
 FORMS = {
     "set": ("r", "signed"),

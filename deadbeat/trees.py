@@ -141,6 +141,26 @@ def _copied_statement(statement):
     return statement
 
 
+def copied_program(program):
+    """An equal program that shares no list with the given one."""
+    _, name, ports, objects, tasks, interrupts = program
+    return (
+        "system", name, list(ports), [_copied_object(thing) for thing in objects],
+        [("task", task[1], task[2], task[3], list(task[4]), _copied(task[5])) for task in tasks],
+        [interrupt[:6] + (list(interrupt[6]),) for interrupt in interrupts],
+    )
+
+
+def _copied_object(thing):
+    _, name, fields, operations = thing
+    return ("object", name, list(fields), [_copied_operation(operation) for operation in operations])
+
+
+def _copied_operation(operation):
+    _, name, params, cells, body, result = operation
+    return ("operation", name, list(params), list(cells), _copied(body), result)
+
+
 def write_program(program):
     """The written form of a program."""
     _, name, ports, objects, tasks, interrupts = program

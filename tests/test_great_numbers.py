@@ -13,33 +13,23 @@ from deadbeat.parsing import parse_expression
 from deadbeat.rules import check
 from deadbeat.tokens import spell, tokenize
 from deadbeat.trees import write_expression, write_program
-from deadbeat.words import alter, combine, decimal, signed, wrap
+from deadbeat.words import alter, combine, signed, wrap
 from tests.programs import system, task
 from tests.samples import full_program
 
 GREAT = [sign * n for sign in (1, -1) for n in (10 ** 639, 10 ** 640, 10 ** 4299, 10 ** 4300, 10 ** 5000, 1 << 20000)]
 
 
-class DecimalTest(unittest.TestCase):
-    def test_short(self):
-        for n in (0, 1, 9, 10, 4294967295, 10 ** 17, 10 ** 18 - 1, 10 ** 18, 10 ** 18 + 7, 10 ** 36, 3 * 10 ** 40 + 5):
-            self.assertEqual(decimal(n), str(n))
-            self.assertEqual(decimal(-n), str(-n))
-
-    def test_great(self):
-        self.assertEqual(decimal(10 ** 5000), "1" + "0" * 5000)
-        self.assertEqual(decimal(-(10 ** 5000)), "-1" + "0" * 5000)
-        self.assertEqual(decimal(10 ** 5000 - 1), "9" * 5000)
-        self.assertEqual(decimal(10 ** 9000 + 12), "1" + "0" * 8998 + "12")
-
+class LimitTest(unittest.TestCase):
     def test_least_limit_of_python(self):
         before = sys.get_int_max_str_digits()
         sys.set_int_max_str_digits(640)
         try:
             for n in GREAT:
-                decimal(n)
                 with self.assertRaises(CodeError):
                     decode(n)
+                self.assertEqual(PlanError(n).at, n)
+                spell([("number", abs(n), 1), ("end", "", 1)])
         finally:
             sys.set_int_max_str_digits(before)
 
@@ -112,8 +102,8 @@ class FunctionsTest(unittest.TestCase):
                 parse_expression(text)
 
     def test_written_forms(self):
-        for n in (10 ** 4300, 10 ** 5000):
-            digits = "1" + "0" * (len(decimal(n)) - 1)
+        for many in (17, 18, 19, 4299, 4300, 5000):
+            n, digits = 10 ** many, "1" + "0" * many
             self.assertEqual(spell([("number", n, 1), ("sign", "+", 1), ("end", "", 1)]), digits + " +")
             self.assertEqual(write_expression(("neg", ("num", n))), "-" + digits)
             name, ports, objects, tasks, _ = full_program()[1:]
@@ -124,6 +114,13 @@ class FunctionsTest(unittest.TestCase):
             self.assertIn(f"  cell a[{digits}]\n", written)
             self.assertIn(f"  loop i to {digits}\n", written)
             self.assertIn(f"interrupt k every {digits} within {digits} calls box.put({digits})\n", written)
+
+    def test_digits(self):
+        for n in (0, 1, 9, 10, 4294967295, 10 ** 17, 10 ** 18 - 1, 10 ** 18 + 7, 10 ** 36, 3 * 10 ** 40 + 5, 7 * 10 ** 639):
+            self.assertEqual(spell([("number", n, 1), ("end", "", 1)]), str(n))
+            self.assertEqual(write_expression(("num", n)), str(n))
+        self.assertEqual(write_expression(("num", 10 ** 5000 - 1)), "9" * 5000)
+        self.assertEqual(write_expression(("num", 10 ** 9000 + 12)), "1" + "0" * 8998 + "12")
 
     def test_words(self):
         for n in GREAT:
