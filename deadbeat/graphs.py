@@ -21,6 +21,7 @@ def successors(code, p):
 
 def graph(code, start):
     """For each address that is reached, ascending, the objects that are entered there. Raises CodeError."""
+    _demand(0 <= start < len(code), start)
     stacks = {start: ()}
     waiting = [start]
     while waiting:

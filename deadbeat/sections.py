@@ -38,7 +38,7 @@ def records(processor, code, starts):
     table = {}
     called = {}
     for start in order:
-        table[start] = _record(processor, code, start, called)
+        table[start] = _routine_record(processor, code, start, called)
         called[start] = routine_bound(table[start])
     return table
 
@@ -106,7 +106,7 @@ def _check_addresses(code, near):
                 raise BoundError(start)
 
 
-def _record(processor, code, start, called):
+def _routine_record(processor, code, start, called):
     """The record of a routine, if the bounds of its callees are known. Raises BoundError."""
     stacks = graph(code, start)
     turns = {}

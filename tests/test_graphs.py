@@ -112,6 +112,11 @@ class GraphTest(unittest.TestCase):
         self.bad([NOP, DONE, NOP], 2)
         self.assertEqual(graph([("jzero", 1, 1), DONE], 0), {0: (), 1: ()})
 
+    def test_start_outside_of_the_code(self):
+        self.bad([DONE], 1)
+        self.bad([DONE], -1)
+        self.bad([], 0)
+
     def test_callee_outside_of_the_code(self):
         self.bad([("link", 2), DONE])
         self.bad([("link", 4095), DONE])

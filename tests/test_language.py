@@ -119,6 +119,14 @@ class LanguageTest(unittest.TestCase):
                     self.assertFalse(hasattr(builtins, name), name)
                     self.assertNotIn(name, NOT_NAMES)
 
+    def test_barred_names(self):
+        beginnings = r"^(_wall|_pe_|_dcw_|_enum_|_cm_|_twin_re_|_lay_|_law_|_stub_|_sre|_WallAttr)"
+        whole = r"^(_cold|_tuplegetter|_outside|_record|_written_out|_member_names)[0-9_]*$"
+        for _, _, tree in self.each():
+            for name in bound_names(tree):
+                self.assertNotRegex(name, beginnings)
+                self.assertNotRegex(name, whole)
+
     def test_names_in_classes(self):
         for _, _, tree in self.each():
             for node in ast.walk(tree):

@@ -130,6 +130,11 @@ class FaultTest(Cases):
         self.bad([("jzero", 1, 2), ("jump", 0), DONE])
         self.bad([("jump", 2), DONE, ("jump", 1)])
 
+    def test_backward_edges_with_the_number_of_the_counter(self):
+        self.bad([("count", 1, 3), ("jzero", 1, 1), DONE])
+        self.bad([("count", 1, 3), NOP, ("jzero", 1, 1), DONE])
+        self.bad([("count", 1, 3), ("jzero", 0, 3), ("jump", 1), DONE])
+
     def test_two_tails_for_one_head(self):
         self.bad([("count", 0, 3), NOP, ("again", 0, 1), ("again", 0, 1), DONE])
         self.bad([("count", 0, 3), ("count", 1, 3), ("again", 1, 1), ("again", 0, 1), DONE])

@@ -189,12 +189,12 @@ class AfterTest(unittest.TestCase):
 
 class HitsTest(unittest.TestCase):
     def of(self, row, code=(), data=()):
-        return hits(processor((2, 2, 2), (1, 2, 4)), [NOP, NOP, row], 2, dict(code), dict(data))
+        return hits(processor((2, 3, 2), (1, 2, 4)), [NOP, NOP, row], 2, dict(code), dict(data))
 
     def test_fetch(self):
         self.assertEqual(self.of(NOP), (False, True))
         self.assertEqual(self.of(NOP, {1: 0}), (True, True))
-        self.assertEqual(self.of(NOP, {1: 1}), (True, True))
+        self.assertEqual(self.of(NOP, {1: 2}), (True, True))
         self.assertEqual(self.of(NOP, {0: 0, 2: 0}), (False, True))
 
     def test_no_loads(self):

@@ -252,6 +252,12 @@ class FaultTest(unittest.TestCase):
         self.bad(BoundError, [("link", 4), DONE, ("link", 6), BACK, ("link", 2), BACK, ("link", 4), BACK], [0], 2, 4, 6)
         self.bad(BoundError, [("link", 2), DONE, ("link", 4), BACK, ("link", 7), ("link", 4), BACK, BACK], [0], 4)
 
+    def test_other_callees_of_a_routine_that_calls_itself(self):
+        code = [("link", 2), DONE, BACK, ("link", 2), ("link", 6), BACK, ("link", 2), ("link", 3), BACK]
+        self.bad(BoundError, [("link", 3), DONE, BACK] + code[3:], [0], 3, 6)
+        self.bad(BoundError, [BACK, ("link", 0), ("link", 4), DONE, ("link", 0), ("link", 4), BACK], [1], 4)
+        self.bad(BoundError, code, [3, 0], 3, 6)
+
     def test_callee_that_is_a_body(self):
         self.bad(BoundError, [("link", 2), DONE, DONE], [0], 0, 2)
         self.bad(BoundError, [("link", 2), DONE, ("link", 4), BACK, NOP, DONE], [0], 2, 4)
