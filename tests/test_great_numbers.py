@@ -5,9 +5,11 @@ import unittest
 
 from deadbeat.caches import Cache
 from deadbeat.codes import decode, encode, is_instruction
+from deadbeat.cpu import Board, Core, Costs, step
 from deadbeat.errors import (
     BoundError, CodeError, CommandError, DeadbeatError, MixError, PlanError, RuleError, TextError,
 )
+from deadbeat.graphs import graph
 from deadbeat.mixing import follow
 from deadbeat.parsing import parse_expression
 from deadbeat.rules import check
@@ -73,6 +75,23 @@ class FunctionsTest(unittest.TestCase):
                     Cache(*sizes)
             with self.assertRaises(PlanError):
                 Cache(1, 2, 1).fill([[n]])
+
+    def test_costs(self):
+        for n in GREAT:
+            for name in ("fetch_hit", "plain", "load_miss", "release", "finish"):
+                with self.assertRaises(PlanError):
+                    Costs(**{name: n})
+
+    def test_addresses(self):
+        for n in GREAT:
+            core, board = Core(n), Board(Cache(1, 1, 1), Cache(1, 1, 1), [])
+            self.assertEqual(step(Costs(), [("done",)], core, board), (0, None))
+            for code in ([("jump", n), ("done",)], [("jzero", 1, n), ("done",)], [("link", n), ("done",)]):
+                with self.assertRaises(CodeError):
+                    graph(code, 0)
+            with self.assertRaises(CodeError) as caught:
+                graph([("done",)], n)
+            self.assertEqual(caught.exception.at, n)
 
     def test_rules(self):
         for n in GREAT:
