@@ -87,10 +87,10 @@ def nests(found):
 
 def follow(found, place, q):
     """The place behind an edge from the address of a place."""
-    return _moved(around(found, place[0]), place, around(found, q), q)
+    return moved(around(found, place[0]), place, around(found, q), q)
 
 
-def _moved(old, place, new, q):
+def moved(old, place, new, q):
     """The place behind an edge, if it is known which loops are around its two addresses."""
     p, turns = place
     rounds = {head: turn for head, turn in zip(old, turns)}
@@ -113,7 +113,7 @@ def onward(code, found, place, ends):
         if here not in behind:
             old = heads.get(here[0], ())
             nearest = [] if here[0] in stops else successors(code, here[0])
-            behind[here] = [_moved(old, here, heads.get(q, ()), q) for q in nearest]
+            behind[here] = [moved(old, here, heads.get(q, ()), q) for q in nearest]
             waiting.extend(behind[here])
     ranks = sorted([(_rank(heads, at), at) for at in behind])
     return {at: behind[at] for _, at in ranks}

@@ -3,7 +3,7 @@
 from deadbeat.errors import BoundError
 from deadbeat.graphs import ending, graph
 from deadbeat.longest import bound, claims
-from deadbeat.loops import follow, loops, places
+from deadbeat.loops import around, follow, loops
 
 
 def callees(code, start):
@@ -90,11 +90,16 @@ def _check_counters(code, near, order):
         below = {}
         for callee in near[start]:
             below.update(used[callee])
-        own = {code[p][1]: True for p in graph(code, start) if code[p][0] in ("count", "again")}
+        own = counters(code, start)
         if any([counter in below for counter in own]):
             raise BoundError(start)
-        below.update(own)
+        below.update({counter: True for counter in own})
         used[start] = below
+
+
+def counters(code, start):
+    """The counters that a routine uses itself, ascending. Raises CodeError."""
+    return sorted(set([code[p][1] for p in graph(code, start) if code[p][0] in ("count", "again")]))
 
 
 def _check_addresses(code, near):
@@ -108,21 +113,26 @@ def _check_addresses(code, near):
 
 def _routine_record(processor, code, start, called):
     """The record of a routine, if the bounds of its callees are known. Raises BoundError."""
-    stacks = graph(code, start)
-    turns = {}
-    for p, row in places(code, start):
-        # Places ascend, so the first one of an address is the smallest.
-        turns.setdefault(p, row)
     found = loops(code, start)
+    rows = claims(processor, code, found, (start, ()), [], called)
     found_sections = []
+    for e, o, first, ends in outlines(code, start, found):
+        found_sections.append((e, o, claims(processor, code, found, first, ends, called)))
+    return (start, ending(code, start), rows, found_sections)
+
+
+def outlines(code, start, found):
+    """Tuples of the address, the object, the first place and the end addresses of each section, ascending."""
+    stacks = graph(code, start)
+    rows = []
     for e in stacks:
         if code[e][0] == "enter":
             o = code[e][1]
-            first = follow(found, (e, turns[e]), e + 1)
+            # Every address of a loop is executed in its first round before it is in a later one.
+            smallest = (e, tuple([0 for _ in around(found, e)]))
             ends = [p for p in stacks if code[p] == ("leave", o) and stacks[p] == stacks[e] + (o,)]
-            found_sections.append((e, o, claims(processor, code, found, first, ends, called)))
-    rows = claims(processor, code, found, (start, ()), [], called)
-    return (start, ending(code, start), rows, found_sections)
+            rows.append((e, o, follow(found, smallest, e + 1), ends))
+    return rows
 
 
 def routine_bound(record):

@@ -116,7 +116,7 @@ class LanguageTest(unittest.TestCase):
             for name in bound_names(tree):
                 if not (name.startswith("__") and name.endswith("__")):
                     self.assertRegex(name, r"^(_|_?[A-Za-z][A-Za-z0-9_]*)$")
-                    self.assertFalse(hasattr(builtins, name), name)
+                    self.assertFalse(name != "_" and hasattr(builtins, name), name)
                     self.assertNotIn(name, NOT_NAMES)
 
     def test_barred_names(self):
