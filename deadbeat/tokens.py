@@ -99,6 +99,11 @@ def _number(run):
     """The value of a run that starts with a digit, or None if it is not a number."""
     if run.startswith("0x"):
         return _hex_number(run[2:])
+    return decimal_number(run)
+
+
+def decimal_number(run):
+    """The value of a decimal number, or None if a run of characters is not one."""
     # Python itself refuses to convert very long runs, so their length is asked first.
     if len(run) > LONGEST_DECIMAL or not _consists_of(run, DIGITS):
         return None
