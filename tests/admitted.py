@@ -39,17 +39,19 @@ class BusyMaker(ValidMaker):
                       interrupts=interrupts)
 
 
-def tight(seed):
-    """A pair of an admitted program with short deadlines and a processor, or None for a great program."""
+def tight(seed, slow=lambda costs: costs):
+    """A pair of an admitted program with short deadlines and a processor, or None for a great program.
+
+    The deadlines fit to the processor with other costs, if these are given.
+    """
     chance = random.Random(seed)
     program, processor = BusyMaker(seed).program(), random_processor(chance)
     if len(build(program, 1, 1)[1]) > 1500:
         return None
+    judged = (*processor[:2], slow(processor[2]))
     many = len(program[4] + program[5])
     program = with_times(program, [(LONGEST, LONGEST - chance.randrange(9)) for _ in range(many)])
-    verdict = admission(program, processor)
-    if not verdict[1]:
-        return None
+    verdict = admission(program, judged)
     for _ in range(12):
         # Deadlines near the responses, and releases that are close to them.
         times = []
@@ -57,7 +59,7 @@ def tight(seed):
             within = max(response, min(row[3], response * chance.choice([10, 11, 13, 20]) // 10))
             times.append((min(row[2], max(within, within * chance.choice([10, 10, 15, 30, 60]) // 10)), within))
         closer = with_times(program, times)
-        found = admission(closer, processor)
+        found = admission(closer, judged)
         if found[1]:
             program, verdict = closer, found
     check(program)
