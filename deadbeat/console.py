@@ -32,7 +32,7 @@ class Console:
         self.costs = {}
         self.shapes = {"code": FIRST_SHAPE, "data": FIRST_SHAPE}
         self.release_times = {}
-        self.words = [[] for _ in range(PORTS)]
+        self.input_words = [[] for _ in range(PORTS)]
         self.lines = []
 
     def perform(self, command):
@@ -45,7 +45,7 @@ class Console:
             case ("release", number, times):
                 self.release_times[number] = times
             case ("input", port, words):
-                self.words[port] = words
+                self.input_words[port] = words
             case ("code", shape):
                 self.shapes["code"] = shape
             case ("data", shape):
@@ -57,10 +57,10 @@ class Console:
         """The lines that a command adds to the output."""
         try:
             return self.told(command)
-        except TextError as error:
-            return [f"error TextError {error.line}"]
-        except RuleError as error:
-            return [f"error RuleError {error.rule}"]
+        except TextError as text_error:
+            return [f"error TextError {text_error.line}"]
+        except RuleError as rule_error:
+            return [f"error RuleError {rule_error.rule}"]
         except PlanError:
             return ["error PlanError"]
         except CodeError:
@@ -93,7 +93,7 @@ class Console:
         """The kernel of a program after it has run up to a time."""
         system = load(program, processor)
         releases = {number: times for number, times in self.release_times.items() if number in system.every}
-        return system.run(releases, self.words, horizon)
+        return system.run(releases, self.input_words, horizon)
 
 
 def _verdict_lines(verdict):
@@ -106,11 +106,10 @@ def _verdict_lines(verdict):
 
 def _run_lines(program, kernel):
     """A line for each event and for each output port of a program."""
-    lines = [" ".join([_written(item) for item in event]) for event in kernel.events]
+    rows = [list(event) for event in kernel.events]
     ports = len([row for row in program[2] if row[0] == "out"])
-    for port in range(ports):
-        lines.append(" ".join([_written(item) for item in ["outputs", port, *kernel.board.outputs[port]]]))
-    return lines
+    rows.extend([["outputs", port] + kernel.board.outputs[port] for port in range(ports)])
+    return [" ".join([_written(item) for item in row]) for row in rows]
 
 
 def _judge_lines(findings):

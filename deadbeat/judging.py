@@ -151,7 +151,8 @@ class Court:
     def begin_job(self, number, time):
         """Begins a job, which preempts the one on top."""
         if len(self.jobs) > 0:
-            self.jobs[-1].preemptions += 1
+            below = self.jobs[-1]
+            below.preemptions += 1
         self.waiting.begin(number)
         self.since[number].pop(0)
         self.stack.push(number)

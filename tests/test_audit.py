@@ -194,7 +194,8 @@ class ClaimsTest(unittest.TestCase):
     def test_turns(self):
         code, rows = self.right_loop()
         for turns in ((2,), (-1,), (0, 0), (), (10 ** 40,)):
-            self.assertFalse(self.right(code, rows + [((2, turns), [], [], 999, (0,) * len(turns))]))
+            for weight in (0, 9):
+                self.assertFalse(self.right(code, rows + [((2, turns), [], [], 999, (weight,) * len(turns))]))
 
     def test_bound_of_1(self):
         """The edge back is never taken, and the way out is, though the item is 0."""
@@ -246,6 +247,25 @@ class ClaimsTest(unittest.TestCase):
         self.assertTrue(self.right(code, rows, called={2: 7}))
         self.assertFalse(self.right(code, rows, called={2: 8}))
         self.assertTrue(self.right(code, rows, called={2: 6, 9: 50}))
+
+    def test_calls_of_unknown_routines(self):
+        """A claim of another routine, which calls one without a bound."""
+        code = [DONE, ("link", 3), DONE, BACK]
+        rows = [((0, ()), [], [], 10, ()), ((1, ()), [], [], 999, ()), ((2, ()), [], [], 10, ())]
+        self.assertTrue(self.right(code, rows, called={3: 7}))
+        self.assertFalse(self.right(code, rows, called={}))
+        self.assertFalse(self.right(code, rows, called={1: 7}))
+
+    def test_ends_in_a_loop(self):
+        """The weight counts at an end address, too."""
+        code, _ = self.right_loop()
+        ends = [2]
+        rows = claims((SMALL, SMALL, FLAT), code, loops(code, 0), (1, (1,)), ends, {})
+        self.assertTrue(self.right(code, rows, place=(1, (1,)), ends=ends))
+        rows = [((1, (1,)), [], [], -1, (9,)), ((2, (1,)), [], [], -6, (9,))]
+        self.assertTrue(self.right(code, rows, place=(1, (1,)), ends=ends))
+        self.assertFalse(self.right(code, [rows[0], replaced(rows[1], 3, -7)], place=(1, (1,)), ends=ends))
+        self.assertFalse(self.right(code, [replaced(row, 4, (8,)) for row in rows], place=(1, (1,)), ends=ends))
 
     def test_nothing_is_known_behind_a_call(self):
         code = [("link", 2), DONE, BACK]
@@ -369,6 +389,11 @@ class RecordsTest(unittest.TestCase):
             rows = self.rows()
             rows[at] = replaced(rows[at], 1, {"body": "operation", "operation": "body"}[rows[at][1]])
             self.assertFalse(self.right(rows))
+        for row in self.rows(starts=[4, 11]):
+            other = {"body": "operation", "operation": "body"}[row[1]]
+            self.assertTrue(self.right([row], starts=[]))
+            self.assertFalse(self.right([replaced(row, 1, other)], starts=[]))
+            self.assertFalse(self.right([replaced(row, 1, "")], starts=[]))
 
     def test_address_that_is_no_routine(self):
         rows = self.rows()

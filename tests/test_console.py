@@ -182,6 +182,18 @@ class CommandsTest(unittest.TestCase):
     def test_defaults(self):
         self.assertEqual(after(FULL, "admit"), after(FULL, "code 4 2 4", "data 4 2 4", "cost fetch_miss 11", "cost finish 8", "admit"))
 
+    def test_default_shapes(self):
+        """A run in which every part of the shapes counts."""
+        text = ("system s out o task t every 90000 within 90000 cell a cell v[40] loop k to 3 loop i to 12 "
+                "a := v[i * 3] + v[i * 3 + 1]; a := a + v[i]; a := v[i + a] * 2 + a; a := v[i + a] + a; end end write o a; end")
+        runs = {}
+        for code in ("4 2 4", "5 2 4", "3 2 4", "4 3 4", "4 1 4", "4 2 8", "4 2 2"):
+            for data in ("4 2 4", code):
+                runs[code, data] = after(text, f"code {code}", f"data {data}", "release 1 0", "run 90000")[-2]
+                runs[data, code] = after(text, f"code {data}", f"data {code}", "release 1 0", "run 90000")[-2]
+        default = after(text, "release 1 0", "run 90000")[-2]
+        self.assertEqual([shapes for shapes, line in runs.items() if line == default], [("4 2 4", "4 2 4")])
+
     def test_spaces(self):
         for line in ("check", " check", "check  ", "   check   "):
             self.assertEqual(after(SMALL, line), ["ok"])

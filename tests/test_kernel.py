@@ -54,7 +54,8 @@ class SetupTest(unittest.TestCase):
         before = frozen(given)
         setup = Setup(**given)
         self.assertEqual(frozen(given), before)
-        given["code"].clear(), given["starts"].clear(), given["ceilings"].clear(), given["watches"][0][1].clear()
+        given["code"].clear(), given["starts"].clear(), given["ceilings"].clear()
+        given["watches"][0][0].clear(), given["watches"][0][1].clear(), given["watches"].clear()
         self.assertEqual([setup.code, setup.starts, setup.ceilings, setup.watches], [[DONE], {1: 0}, [3], {0: ([1], [2, 3])}])
 
 

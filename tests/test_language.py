@@ -193,3 +193,26 @@ class LanguageTest(unittest.TestCase):
         for _, _, tree in self.each():
             imported = {name.name for row in tree.body if isinstance(row, ast.ImportFrom) for name in row.names}
             self.assertFalse(imported & set(bound_names(tree)))
+
+    def test_attributes_are_assigned_through_names(self):
+        for _, _, tree in self.each():
+            for node in ast.walk(tree):
+                if isinstance(node, ast.Attribute) and isinstance(node.ctx, ast.Store):
+                    self.assertIsInstance(node.value, ast.Name)
+
+    def test_caught_errors_have_names_of_their_own(self):
+        for _, _, tree in self.each():
+            for node in ast.walk(tree):
+                if isinstance(node, ast.FunctionDef):
+                    names = [row.name for row in ast.walk(node) if isinstance(row, ast.ExceptHandler) and row.name]
+                    self.assertEqual(len(names), len(set(names)))
+                    self.assertFalse(set(names) & set(bound_names(node)))
+
+    def test_names_in_a_class_are_methods_or_attributes(self):
+        for _, _, tree in self.each():
+            for node in ast.walk(tree):
+                if isinstance(node, ast.ClassDef):
+                    methods = [row.name for row in node.body if isinstance(row, ast.FunctionDef)]
+                    fields = {row.attr for row in ast.walk(node) if isinstance(row, ast.Attribute) and isinstance(row.ctx, ast.Store)}
+                    self.assertEqual(len(methods), len(set(methods)))
+                    self.assertFalse(fields & set(methods))
