@@ -4,11 +4,12 @@ import unittest
 
 from deadbeat.audit import audit, certify
 from deadbeat.images import build, entry, routine_at
+from deadbeat.judging import Limits, judge
 from deadbeat.layout import find_group
 from deadbeat.mixing import follow
 from deadbeat.orders import ceilings, numbers
 from deadbeat.reload import charge, section_reload, used_sets
-from deadbeat.sections import routine_bound, section_bounds
+from deadbeat.sections import all_routines, routine_bound, section_bounds
 from tests.admitted import run, tight
 from tests.certificates import forgetful, slow_costs
 
@@ -41,6 +42,17 @@ class World:
             self.charges[j, n] = charge(self.processor, self.code, self.table, self.starts, self.ceilings, j, n)
         return self.charges[j, n]
 
+    def limits(self):
+        """The limits of point 31.4."""
+        sections = {(number, o): 0 for number in self.starts for o in range(len(self.ceilings))}
+        for number, start in self.starts.items():
+            for at in all_routines(self.code, [start]):
+                for _, o, bound in section_bounds(self.table[at]):
+                    sections[number, o] = max(sections[number, o], bound)
+        reloads = {number: max([self.charge(j, number) for j in self.starts if j > number], default=0) for number in self.starts}
+        return Limits(within=self.within, ceilings=self.ceilings, bodies={number: self.body(number) for number in self.starts},
+                      sections=sections, reloads=reloads)
+
     def longest_section(self, o, preempting):
         """The greatest bound of a section in an object, with the reload costs of the numbers that preempted it."""
         return max(bound + sum(self.section_reload(start, e, j) for j in preempting)
@@ -66,6 +78,7 @@ class PromiseTest(unittest.TestCase):
         self.check_waiting(world, trace)
         self.check_times(world, trace)
         self.check_record(world, kernel, inputs)
+        self.assertEqual(judge(world.limits(), trace), [])
 
     def check_releases(self, world, trace, releases):
         """Point 0.15."""
